@@ -1,0 +1,1 @@
+"""Loneseats: which rules of selling neighbouring seats leave seats that nobody can use."""

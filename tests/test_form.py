@@ -1,0 +1,141 @@
+import ast
+import builtins
+import importlib
+import inspect
+import os
+import re
+import unittest
+
+FOLDER = os.path.join(os.path.dirname(os.path.dirname(os.path.abspath(__file__))), "loneseats")
+LIBRARY = {"heapq", "math", "itertools", "collections"}
+BUILTINS = set("""len range enumerate zip min max sum abs sorted reversed int str bool list tuple dict set frozenset
+    isinstance ord repr any all divmod pow getattr hasattr setattr iter next map Exception ValueError TypeError
+    KeyError IndexError LookupError ZeroDivisionError ArithmeticError OverflowError RuntimeError NotImplementedError
+    StopIteration NotImplemented property staticmethod classmethod super object""".split())
+BARRED = re.compile(r"\b(type|typing|enum|Enum|Flag|Generic|Protocol|ABC|namedtuple|dataclass|global|async)\b")
+
+# The interface, as far as it is built: each name with its parameters, of the file under which it is listed.
+INTERFACE = {
+    "errors": {"LoneError": None, "Wrong": "(place)", "NoEnd": "(end)", "NoSize": "(size)", "NoChoice": None,
+               "BadSale": "(at)", "NoSale": "(sale)", "BadStep": "(at)", "Nothing": None, "BadEdit": None,
+               "NoText": "(line)", "NoCommand": None},
+    "kinds": {"is_integer": "(thing)", "is_number": "(thing)", "is_end": "(thing)", "is_size": "(thing)",
+              "are_sizes": "(thing)", "is_stretch": "(thing)", "is_choice": "(thing)", "is_sale": "(thing)"},
+    "stretches": {"fits": "(stretch, size, before)", "parts": "(stretch, size, before)", "turned": "(stretch)",
+                  "wholes": "(length)"},
+    "rules": {"Rule": "(sizes, bad=None, *, soft=False, where='any', offer=0)"},
+    "choices": {"possible": "(rule, stretch, size)", "let": "(rule, stretch, size)",
+                "offered": "(rule, stretch, size)", "refuses": "(rule, stretch, size)",
+                "is_bad": "(rule, stretch, size, before)", "sales": "(rule, stretch)",
+                "is_sold": "(rule, stretch, thing)", "is_stuck": "(rule, stretch)"},
+}
+METHODS = {
+    ("rules", "Rule"): {"__eq__": "(self, other)", "bad_at": "(self, end)", "greatest_bad": "(self)", "span": "(self)",
+                        "with_bad": "(self, end, lengths)", "with_sizes": "(self, sizes)",
+                        "with_soft": "(self, soft)", "with_where": "(self, where)", "with_offer": "(self, offer)",
+                        "bare": "(self)"},
+}
+PROPERTIES = {("rules", "Rule"): ("sizes", "soft", "where", "offer")}
+
+
+def files():
+    """The text and the tree of each file of the package."""
+    found = {}
+    for name in sorted(os.listdir(FOLDER)):
+        if name != "__pycache__":
+            with open(os.path.join(FOLDER, name), encoding="utf-8") as file:
+                found[name] = file.read()
+    return {name: (text, ast.parse(text)) for name, text in found.items()}
+
+
+class Form(unittest.TestCase):
+    """The plainest of the rules of LANGUAGE.md: L1, L2, L7, L8, L10, L14, L16, L17, L27."""
+
+    def test_files_and_sizes(self):
+        for name, (text, tree) in files().items():
+            self.assertRegex(name, r"^[a-z_]+\.py$")
+            self.assertRegex(text, r"\A[ -~\n]*\Z")
+            self.assertLess(len(text.split("\n")), 400)
+            self.assertLessEqual(max(len(line) for line in text.split("\n")), 120)
+            for node in ast.walk(tree):
+                if isinstance(node, ast.FunctionDef):
+                    self.assertLessEqual(node.end_lineno - node.lineno + 1, 40, node.name)
+
+    def test_imports(self):
+        seen = {}
+        for name, (text, tree) in files().items():
+            for node in ast.walk(tree):
+                self.assertNotIsInstance(node, ast.Import)
+                if isinstance(node, ast.ImportFrom):
+                    self.assertTrue(node.module.startswith("loneseats.") or node.module in LIBRARY, node.module)
+                    self.assertFalse([alias for alias in node.names if alias.asname or alias.name == "*"])
+                    seen.setdefault(name, set()).add(node.module.split(".")[-1] + ".py")
+        for name in seen:
+            reached, waiting = set(), [name]
+            while waiting:
+                for other in seen.get(waiting.pop(), ()):
+                    if other not in reached:
+                        reached.add(other)
+                        waiting.append(other)
+            self.assertNotIn(name, reached)
+
+    def test_words(self):
+        for name, (text, tree) in files().items():
+            for node in ast.walk(tree):
+                if isinstance(node, ast.Name):
+                    if hasattr(builtins, node.id):
+                        self.assertIn(node.id, BUILTINS, name)
+                        self.assertIsInstance(node.ctx, ast.Load, (name, node.id))
+                    self.assertIsNone(BARRED.search(node.id), name)
+                if isinstance(node, (ast.FunctionDef, ast.ClassDef)):
+                    self.assertTrue(node.name.startswith("__") or not hasattr(builtins, node.name), node.name)
+                if isinstance(node, ast.arg):
+                    self.assertFalse(hasattr(builtins, node.arg), node.arg)
+                if isinstance(node, ast.Constant):
+                    self.assertNotIsInstance(node.value, (float, complex))
+                    if isinstance(node.value, str):
+                        self.assertNotIn(chr(37), node.value)
+                self.assertNotIsInstance(node, (ast.Div, ast.Global, ast.AsyncFunctionDef, ast.GeneratorExp))
+                if isinstance(node, ast.Attribute):
+                    self.assertNotIn(node.attr, ("sort", "format", "mro"))
+
+    def test_names_of_imports_are_not_taken(self):
+        for name, (text, tree) in files().items():
+            imported = {alias.name for node in tree.body if isinstance(node, ast.ImportFrom) for alias in node.names}
+            for node in ast.walk(tree):
+                if isinstance(node, ast.Name) and isinstance(node.ctx, ast.Store):
+                    self.assertNotIn(node.id, imported, name)
+                if isinstance(node, ast.arg):
+                    self.assertNotIn(node.arg, imported, name)
+            used = {node.id for node in ast.walk(tree) if isinstance(node, ast.Name)}
+            self.assertEqual(imported - used, set(), name)
+
+
+class Interface(unittest.TestCase):
+    """The interface of DOC.md: names, parameters and the files in which they are defined."""
+
+    def test_names_and_parameters(self):
+        for module, names in INTERFACE.items():
+            held = importlib.import_module("loneseats." + module)
+            for name, parameters in names.items():
+                with self.subTest(module=module, name=name):
+                    self.assertEqual(getattr(held, name).__module__, "loneseats." + module)
+                    if parameters is not None:
+                        self.assertEqual(str(inspect.signature(getattr(held, name))), parameters)
+
+    def test_methods_stand_in_their_class(self):
+        for (module, name), methods in METHODS.items():
+            held = getattr(importlib.import_module("loneseats." + module), name)
+            for method, parameters in methods.items():
+                with self.subTest(name=name, method=method):
+                    self.assertEqual(str(inspect.signature(vars(held)[method])), parameters)
+
+    def test_properties(self):
+        for (module, name), properties in PROPERTIES.items():
+            held = getattr(importlib.import_module("loneseats." + module), name)
+            for told in properties:
+                self.assertIsInstance(vars(held)[told], property)
+
+
+if __name__ == "__main__":
+    unittest.main()
