@@ -18,6 +18,16 @@ def nested(depth, core=0):
     return core
 
 
+class Same:
+    """Equal to everything."""
+
+    def __eq__(self, other):
+        return True
+
+    def __deepcopy__(self, memo):
+        return self
+
+
 def any_values():
     """Values of many kinds, new each time."""
     return [
@@ -26,7 +36,7 @@ def any_values():
         (2,), (2, 1), [2, 1], (0, 1, 2), [0, 1, 2], (1, 2, 3, 4), ("wall", 3, "sold"), ["wall", 3, "sold"],
         {"wall": [1]}, {1: 2}, {True: 1}, {"soft": True}, [[5]], ((5,),), [None], [[]], ((),), (None, None),
         (None, None, None), nested(29), (nested(28), nested(28), nested(28)), [0] * 9999, (2,) * 9999,
-        object, object(), len, frozenset([1]), range(3),
+        object, object(), Same(), len, frozenset([1]), range(3),
     ]
 
 
@@ -178,18 +188,29 @@ def words_sales_then(words, stretch, sold):
                   for size, before in words_sales(words, part))
 
 
-def words_states(words, stretch):
-    """All sets of sales that plays of a stretch come to, each as an ascending tuple."""
-    found = {()}
-    waiting = [()]
+def reached(play, sales_then):
+    """All sets of sales that plays which begin with this one come to, each as an ascending tuple."""
+    first = tuple(sorted(play))
+    found = {first}
+    waiting = [first]
     while waiting:
         state = waiting.pop()
-        for sale in words_sales_then(words, stretch, state):
+        for sale in sales_then(state):
             later = tuple(sorted(state + (sale,)))
             if later not in found:
                 found.add(later)
                 waiting.append(later)
     return sorted(found)
+
+
+def words_states(words, stretch, play=()):
+    """All sets of sales that plays of a stretch come to, behind some sales."""
+    return reached(play, lambda state: words_sales_then(words, stretch, state))
+
+
+def words_plan_states(words, rows, play=()):
+    """All sets of sales that plays of a plan come to, behind some sales."""
+    return reached(play, lambda state: words_sales_behind(words, rows, state))
 
 
 def words_is_end(words, until, stretch, state):

@@ -174,7 +174,8 @@ class Kept(unittest.TestCase):
                     self.assertEqual(function(rule, stretch, 2), kept)
                 first = sales(rule, stretch)
                 first.clear()
-                self.assertEqual(sales(rule, stretch), words_sales(told([2], {"sold": [1]}, soft, "any", offer), stretch))
+                words = told([2], {"sold": [1]}, soft, "any", offer)
+                self.assertEqual(sales(rule, stretch), words_sales(words, stretch))
                 self.assertEqual(rule, Rule([2], {"sold": [1]}, soft=soft, offer=offer))
 
 

@@ -28,14 +28,26 @@ INTERFACE = {
                 "offered": "(rule, stretch, size)", "refuses": "(rule, stretch, size)",
                 "is_bad": "(rule, stretch, size, before)", "sales": "(rule, stretch)",
                 "is_sold": "(rule, stretch, thing)", "is_stuck": "(rule, stretch)"},
+    "plans": {"Plan": "(rows)"},
+    "plays": {"behind": "(rule, plan, play)", "sales_behind": "(rule, plan, play)", "free_seats": "(rule, plan, play)",
+              "is_play": "(rule, plan, thing)", "is_whole": "(rule, plan, thing)", "tally": "(play)"},
+    "worths": {"Worth": "(prices=None, free=0, *, until=0)", "may_end": "(rule, worth, stretch)"},
+    "totals": {"greatest": "(rule, worth, stretch)", "least": "(rule, worth, stretch)",
+               "table": "(rule, worth, left, right, upto, *, is_least=False)",
+               "totals_of": "(rule, worth, stretch)", "play_for": "(rule, worth, stretch, *, is_least=False)",
+               "left_behind": "(rule, stretch, play)", "total_of": "(rule, worth, stretch, play)"},
 }
 METHODS = {
     ("rules", "Rule"): {"__eq__": "(self, other)", "bad_at": "(self, end)", "greatest_bad": "(self)", "span": "(self)",
                         "with_bad": "(self, end, lengths)", "with_sizes": "(self, sizes)",
                         "with_soft": "(self, soft)", "with_where": "(self, where)", "with_offer": "(self, offer)",
                         "bare": "(self)"},
+    ("plans", "Plan"): {"__eq__": "(self, other)", "__len__": "(self)", "__iter__": "(self)", "rows": "(self)",
+                        "stretches": "(self)"},
+    ("worths", "Worth"): {"__eq__": "(self, other)", "prices": "(self)", "price": "(self, size)",
+                          "total": "(self, sold, seats)"},
 }
-PROPERTIES = {("rules", "Rule"): ("sizes", "soft", "where", "offer")}
+PROPERTIES = {("rules", "Rule"): ("sizes", "soft", "where", "offer"), ("worths", "Worth"): ("free", "until")}
 
 
 def files():
