@@ -2,6 +2,7 @@
 
 from loneseats.errors import NoChoice, NoSize
 from loneseats.kinds import is_choice, is_size
+from loneseats.splits import Splits
 from loneseats.stretches import fits
 
 
@@ -16,33 +17,25 @@ def check_size(rule, size):
         raise NoSize(size)
 
 
-def _bad_befores(rule, stretch, size):
-    """The befores that make a choice bad, also such as do not fit, in any order."""
-    left, length, right = stretch
-    return rule.bad_at(left) + [length - size - after for after in rule.bad_at(right)]
-
-
 def possible(rule, stretch, size):
     """The befores of the possible choices, ascending."""
     check_size(rule, size)
-    last = stretch[1] - size
-    if rule.where == "side" and last > 0:
-        return [0, last]
-    return list(range(last + 1))
+    left, length, right = stretch
+    return Splits(rule, left, right).possible(length - size)
 
 
 def let(rule, stretch, size):
     """The befores of the choices that the rule lets, ascending."""
-    found = possible(rule, stretch, size)
-    bad = _bad_befores(rule, stretch, size)
-    good = [before for before in found if before not in bad]
-    return found if rule.soft and not good else good
+    check_size(rule, size)
+    left, length, right = stretch
+    return Splits(rule, left, right).let(length - size)
 
 
 def offered(rule, stretch, size):
     """The befores of the choices that the rule offers, ascending."""
-    found = let(rule, stretch, size)
-    return found if rule.offer == 0 else found[:rule.offer]
+    check_size(rule, size)
+    left, length, right = stretch
+    return Splits(rule, left, right).offered(length - size)
 
 
 def refuses(rule, stretch, size):
@@ -55,12 +48,15 @@ def is_bad(rule, stretch, size, before):
     check_size(rule, size)
     if not fits(stretch, size, before):
         raise NoChoice()
-    return before in _bad_befores(rule, stretch, size)
+    left, length, right = stretch
+    return Splits(rule, left, right).is_bad(length - size, before)
 
 
 def sales(rule, stretch):
     """All offered choices, ascending, as tuples (size, before)."""
-    return [(size, before) for size in rule.sizes for before in offered(rule, stretch, size)]
+    left, length, right = stretch
+    splits = Splits(rule, left, right)
+    return [(size, before) for size in rule.sizes for before in splits.offered(length - size)]
 
 
 def is_sold(rule, stretch, thing):
@@ -68,12 +64,11 @@ def is_sold(rule, stretch, thing):
     if not is_choice(thing):
         return False
     size, before = thing
-    return has_size(rule, size) and before in offered(rule, stretch, size)
+    left, length, right = stretch
+    # What does not fit is told ahead, as plays ask each free stretch of a row for a sale.
+    return has_size(rule, size) and size + before <= length and Splits(rule, left, right).has(length - size, before)
 
 
 def is_stuck(rule, stretch):
     """Whether no choice is offered for any size."""
-    for size in rule.sizes:
-        if not refuses(rule, stretch, size):
-            return False
-    return True
+    return not sales(rule, stretch)

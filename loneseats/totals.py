@@ -3,9 +3,10 @@
 A sale in a stretch is a tuple (seat, size), its seats being counted from 0.
 """
 
-from loneseats.choices import offered, sales
 from loneseats.errors import BadSale
+from loneseats.kinds import ENDS
 from loneseats.plays import free_behind, tally
+from loneseats.splits import Splits
 from loneseats.stretches import parts
 from loneseats.worths import check_until, may_end
 
@@ -19,32 +20,131 @@ def pairs_within(left, right):
     return found
 
 
-def _best_total(rule, worth, tables, stretch, is_least):
-    """The greatest or least total of a stretch, by the tables of what can come of it."""
-    left, length, right = stretch
-    found = [worth.free * length] if may_end(rule, worth, stretch) else []
-    for size in rule.sizes:
-        price, rest = worth.price(size), length - size
-        befores, afters = tables[(left, "sold")], tables[("sold", right)]
-        found.extend([price + befores[before] + afters[rest - before] for before in offered(rule, stretch, size)])
-    return min(found) if is_least else max(found)
+def like_ends(rule):
+    """The dict from each end to an end with the same bad lengths, which is one for all of them."""
+    bad = {end: rule.bad_at(end) for end in ENDS}
+    return {end: [other for other in ("sold", "pillar", "wall") if bad[other] == bad[end]][0] for end in ENDS}
 
 
-def tables_within(rule, worth, left, right, upto, is_least):
-    """The dict from the pairs of ends that can come of these two to the lists of their totals, upto included."""
-    tables = {}
-    for one, other in pairs_within(left, right):
-        # The list stands in the dict before it is full, as a stretch can leave shorter ones with its own ends.
-        tables[(one, other)] = []
-        for length in range(upto + 1):
-            tables[(one, other)].append(_best_total(rule, worth, tables, (one, length, other), is_least))
-    return tables
+class Bids:
+    """The prices of a rule and a worth. With is_least they are negated, so the greatest totals are those asked, too.
+
+    Behind a choice only the rest counts, the seats that the party leaves free; so what both parts of a stretch come to
+    is kept by rests, None where nothing is offered.
+    """
+
+    def __init__(self, rule, worth, is_least):
+        self.sign = -1 if is_least else 1
+        self.prices = [(size, self.sign * worth.price(size)) for size in rule.sizes]
+        self._seat = self.sign * worth.free
+        self._last = worth.until
+
+    def most(self, rests, length):
+        """What a stretch comes to at most, by what comes of its rests."""
+        found = []
+        is_refused = True
+        for size, price in self.prices:
+            if size <= length and rests[length - size] is not None:
+                found.append(price + rests[length - size])
+                is_refused = is_refused and self._last not in (0, size)
+        if is_refused:
+            found.append(self._seat * length)
+        return max(found)
+
+
+def most_of_rest(befores, afters, found, rest):
+    """What both parts of a rest come to at most with the befores found, None without any."""
+    return max([befores[before] + afters[rest - before] for before in found]) if found else None
+
+
+class Tables:
+    """The totals of all stretches with some ends, as far as they have been grown, kept as Bids has them.
+
+    Ends with the same bad lengths have the same totals, so one of them stands for all.
+
+    Choices that leave both parts as many seats as the span need not be asked. Each play does a sale in the right part
+    then, as it refuses nothing. This sale can as well be the first one: it leaves the same at its right, and at its
+    left what the other sale parts just as well. So the right part can be made shorter until it is below the span.
+    """
+
+    def __init__(self, rule, worth, is_least):
+        self._rule = rule
+        self._bids = Bids(rule, worth, is_least)
+        self._span = rule.span()
+        self._like = like_ends(rule)
+        self._splits = {}
+        self._totals = {}
+        self._rests = {}
+
+    def grow(self, left, right, upto):
+        """Finds the totals of all stretches of at most so many seats that can come of such with these ends."""
+        for pair in pairs_within(self._like[left], self._like[right]):
+            if pair not in self._totals:
+                self._splits[pair] = Splits(self._rule, pair[0], pair[1])
+                self._totals[pair] = []
+                self._rests[pair] = []
+            self._grow_pair(pair, upto)
+
+    def _grow_pair(self, pair, upto):
+        """Finds the totals of a pair, as those of its parts are known."""
+        left, right = pair
+        splits, totals, rests = self._splits[pair], self._totals[pair], self._rests[pair]
+        befores, afters = self._totals[(left, "sold")], self._totals[("sold", right)]
+        known = len(totals)
+        for length in range(known, upto + 1):
+            if length > 0:
+                rests.append(most_of_rest(befores, afters, splits.outer(length - 1, self._span), length - 1))
+            totals.append(self._bids.most(rests, length))
+
+    def kept(self):
+        """The lists of the totals as they are kept, one for each pair of ends that are unlike."""
+        return list(self._totals.values())
+
+    def told(self, left, right, upto):
+        """The list of the totals of the stretches with these ends and at most so many seats, which are grown."""
+        totals = self._totals[(self._like[left], self._like[right])]
+        return [self._bids.sign * total for total in totals[:upto + 1]]
+
+    def choice(self, stretch):
+        """A choice with which a stretch comes to its total; None if it does so only as it is."""
+        left, length, right = stretch
+        pair = (self._like[left], self._like[right])
+        rests, total = self._rests[pair], self._totals[pair][length]
+        for size, price in self._bids.prices:
+            if size <= length and rests[length - size] is not None and price + rests[length - size] == total:
+                return size, self._before(pair, length - size)
+        return None
+
+    def _before(self, pair, rest):
+        """A before with which both parts of a rest come to what they come to at most."""
+        left, right = pair
+        befores, afters = self._totals[(left, "sold")], self._totals[("sold", right)]
+        most = self._rests[pair][rest]
+        found = self._splits[pair].outer(rest, self._span)
+        return [before for before in found if befores[before] + afters[rest - before] == most][0]
+
+    def play(self, stretch):
+        """A play with which a stretch comes to its total, of tuples (seat, size)."""
+        found = []
+        waiting = [(0, stretch)]
+        while waiting:
+            first, place = waiting.pop()
+            choice = self.choice(place)
+            if choice is not None:
+                size, before = choice
+                one, other = parts(place, size, before)
+                found.append((first + before, size))
+                waiting.append((first, one))
+                waiting.append((first + before + size, other))
+        return found
 
 
 def table(rule, worth, left, right, upto, *, is_least=False):
     """The totals of the stretches with two ends and the lengths from 0 to upto."""
     check_until(rule, worth)
-    return tables_within(rule, worth, left, right, upto, is_least)[(left, right)]
+    tables = Tables(rule, worth, is_least)
+    tables.grow(left, right, upto)
+    return tables.told(left, right, upto)
 
 
 def greatest(rule, worth, stretch):
@@ -59,17 +159,29 @@ def least(rule, worth, stretch):
     return table(rule, worth, left, right, length, is_least=True)[length]
 
 
-def _all_totals(rule, worth, known, stretch):
-    """The ascending list of all totals of a stretch, by those of what can come of it."""
-    found = set()
-    if may_end(rule, worth, stretch):
-        found.add(worth.free * stretch[1])
-    for size, before in sales(rule, stretch):
-        left, right = parts(stretch, size, before)
-        for one in known[left]:
-            for other in known[right]:
-                found.add(worth.price(size) + one + other)
-    return sorted(found)
+def _numbers(bits):
+    """The ascending list of the numbers of the bits that are set in an integer."""
+    return [number for number in range(bits.bit_length()) if bits >> number & 1]
+
+
+def _rest_bits(splits, befores, afters, rest):
+    """An integer with a bit for each number that both parts of a rest come to; 0 where nothing is offered."""
+    found = 0
+    for before in splits.offered(rest):
+        for number in _numbers(afters[rest - before]):
+            found = found | (befores[before] << number)
+    return found
+
+
+def _total_bits(rule, worth, rests, length):
+    """An integer with a bit for each total of a stretch, by what comes of its rests."""
+    found = 0
+    is_refused = True
+    for size in rule.sizes:
+        if size <= length and rests[length - size] > 0:
+            found = found | (rests[length - size] << worth.price(size))
+            is_refused = is_refused and worth.until not in (0, size)
+    return found | (1 << worth.free * length) if is_refused else found
 
 
 def totals_of(rule, worth, stretch):
@@ -78,39 +190,23 @@ def totals_of(rule, worth, stretch):
     left, length, right = stretch
     known = {}
     for one, other in pairs_within(left, right):
+        splits = Splits(rule, one, other)
+        known[(one, other)] = found = []
+        rests = []
         for many in range(length + 1):
-            known[(one, many, other)] = _all_totals(rule, worth, known, (one, many, other))
-    return known[stretch]
-
-
-def _choice_for(rule, worth, tables, stretch):
-    """A choice with which a stretch comes to its total in the tables; None if it does so only as it is."""
-    left, length, right = stretch
-    total = tables[(left, right)][length]
-    for size, before in sales(rule, stretch):
-        rest = tables[(left, "sold")][before] + tables[("sold", right)][length - size - before]
-        if worth.price(size) + rest == total:
-            return size, before
-    return None
+            if many > 0:
+                rests.append(_rest_bits(splits, known[(one, "sold")], known[("sold", other)], many - 1))
+            found.append(_total_bits(rule, worth, rests, many))
+    return _numbers(known[(left, right)][length])
 
 
 def play_for(rule, worth, stretch, *, is_least=False):
     """A play of a stretch that comes to its greatest or least total and may end."""
     check_until(rule, worth)
     left, length, right = stretch
-    tables = tables_within(rule, worth, left, right, length, is_least)
-    play = []
-    waiting = [(0, stretch)]
-    while waiting:
-        first, place = waiting.pop()
-        choice = _choice_for(rule, worth, tables, place)
-        if choice is not None:
-            size, before = choice
-            one, other = parts(place, size, before)
-            play.append((first + before, size))
-            waiting.append((first, one))
-            waiting.append((first + before + size, other))
-    return play
+    tables = Tables(rule, worth, is_least)
+    tables.grow(left, right, length)
+    return tables.play(stretch)
 
 
 def _in_row(play):

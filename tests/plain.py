@@ -7,8 +7,10 @@ import copy
 import random
 
 from loneseats.rules import Rule
+from loneseats.worths import Worth
 
 ENDS = ("pillar", "sold", "wall")
+PAIRS = [(left, right) for left in ENDS for right in ENDS]
 
 
 def nested(depth, core=0):
@@ -76,6 +78,24 @@ def some_rules(seed, many, greatest=5):
         offer = 0 if at % 2 else chance.randint(1, 5)
         found.append(told(sizes, bad, chance.random() < 0.5, chance.choice(["any", "any", "side"]), offer))
     return found
+
+
+def some_worth(chance, sizes):
+    """The prices, the price of a free seat and the until of a worth for a rule."""
+    prices = {size: chance.randint(0, 9) for size in range(1, 6) if chance.random() < 0.7}
+    return prices, chance.randint(0, 9), chance.choice([0, 0] + sizes)
+
+
+def some_cases(seed, many):
+    """Rules told by dicts, each with what makes a worth for it."""
+    chance = random.Random(seed)
+    return [(words, some_worth(chance, words["sizes"])) for words in some_rules(seed, many)]
+
+
+def worth_of(parts):
+    """The Worth of prices, a free price and an until."""
+    prices, free, until = parts
+    return Worth(prices, free, until=until)
 
 
 def words_possible(words, stretch, size):
@@ -249,3 +269,21 @@ def words_sales_behind(words, rows, play):
     """All sales (row, seat, size) that are offered behind a play of a plan."""
     return sorted((row, seat + before, size) for row, seat, stretch in words_behind(rows, play)
                   for size, before in words_sales(words, stretch))
+
+
+def words_items(words, prices, free, until, is_least):
+    """All items (weight, gain), by the definition."""
+    total, bad = words_total(words, prices, free, until, is_least), words["bad"].get("sold", [])
+    if words["where"] == "side":
+        beside = [0]
+    elif words["offer"] == 0:
+        beside = [many for many in range(words_span(words)) if many not in bad]
+    else:
+        beside = []
+        many = 0
+        while len(beside) < words["offer"]:
+            if many not in bad:
+                beside.append(many)
+            many += 1
+    return sorted({(size + many, prices.get(size, 0) + total(("sold", many, "sold")))
+                   for size in words["sizes"] for many in beside})

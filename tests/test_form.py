@@ -36,6 +36,15 @@ INTERFACE = {
                "table": "(rule, worth, left, right, upto, *, is_least=False)",
                "totals_of": "(rule, worth, stretch)", "play_for": "(rule, worth, stretch, *, is_least=False)",
                "left_behind": "(rule, stretch, play)", "total_of": "(rule, worth, stretch, play)"},
+    "halls": {"Hall": "(plan, rule)"},
+    "sums": {"greatest_in": "(rule, worth, plan)", "least_in": "(rule, worth, plan)",
+             "plan_play": "(rule, worth, plan, *, is_least=False)"},
+    "items": {"items": "(rule, worth, *, is_least=False)", "best_item": "(rule, worth, *, is_least=False)",
+              "rate": "(rule, worth, *, is_least=False)", "is_rate": "(rule, worth, thing, *, is_least=False)"},
+    "forms": {"form": "(rule, worth, left, right, *, is_least=False)", "value": "(told, length)"},
+    "papers": {"price_lists": "(rule, worth, upto, *, is_least=False)", "paper": "(rule, worth, *, is_least=False)",
+               "are_price_lists": "(rule, worth, thing, *, is_least=False)",
+               "is_paper": "(rule, worth, thing, *, is_least=False)"},
 }
 METHODS = {
     ("rules", "Rule"): {"__eq__": "(self, other)", "bad_at": "(self, end)", "greatest_bad": "(self)", "span": "(self)",
@@ -46,8 +55,13 @@ METHODS = {
                         "stretches": "(self)"},
     ("worths", "Worth"): {"__eq__": "(self, other)", "prices": "(self)", "price": "(self, size)",
                           "total": "(self, sold, seats)"},
+    ("halls", "Hall"): {"__eq__": "(self, other)", "__len__": "(self)", "__iter__": "(self)",
+                        "sell": "(self, row, seat, size)", "back": "(self)", "again": "(self)", "log": "(self)",
+                        "stretches": "(self)", "sales": "(self)", "seats": "(self)", "is_whole": "(self)",
+                        "offers": "(self, size)", "refused": "(self, size)", "copied": "(self)"},
 }
-PROPERTIES = {("rules", "Rule"): ("sizes", "soft", "where", "offer"), ("worths", "Worth"): ("free", "until")}
+PROPERTIES = {("rules", "Rule"): ("sizes", "soft", "where", "offer"), ("worths", "Worth"): ("free", "until"),
+              ("halls", "Hall"): ("plan", "rule")}
 
 
 def files():

@@ -8,30 +8,11 @@ from loneseats.rules import Rule
 from loneseats.stretches import turned
 from loneseats.totals import greatest, least, left_behind, play_for, table, total_of, totals_of
 from loneseats.worths import Worth
-from tests.plain import (ENDS, any_values, made, same, some_rules, told, words_behind, words_count, words_free,
-                         words_is_end, words_is_stuck, words_may_end, words_plan_states, words_sales_then,
-                         words_states, words_total, words_totals)
+from tests.plain import (ENDS, PAIRS, any_values, made, same, some_cases, some_rules, told, words_behind, words_count,
+                         words_free, words_is_end, words_is_stuck, words_may_end, words_plan_states,
+                         words_sales_then, words_states, words_total, words_totals, worth_of)
 
 EMPTY, BARE, STRICT = Worth(free=1), Rule([2]), Rule([2], {"sold": [1]})
-PAIRS = [(left, right) for left in ENDS for right in ENDS]
-
-
-def some_worth(chance, sizes):
-    """The prices, the price of a free seat and the until of a worth for a rule."""
-    prices = {size: chance.randint(0, 9) for size in range(1, 6) if chance.random() < 0.7}
-    return prices, chance.randint(0, 9), chance.choice([0, 0] + sizes)
-
-
-def some_cases(seed, many):
-    """Rules told by dicts, each with what makes a worth for it."""
-    chance = random.Random(seed)
-    return [(words, some_worth(chance, words["sizes"])) for words in some_rules(seed, many)]
-
-
-def worth_of(parts):
-    """The Worth of prices, a free price and an until."""
-    prices, free, until = parts
-    return Worth(prices, free, until=until)
 
 
 class Examples(unittest.TestCase):
