@@ -2,7 +2,7 @@
 
 from loneseats.errors import NoChoice, NoSize
 from loneseats.kinds import is_choice, is_size
-from loneseats.splits import Splits
+from loneseats.splits import Splits, possible_befores
 from loneseats.stretches import fits
 
 
@@ -20,8 +20,7 @@ def check_size(rule, size):
 def possible(rule, stretch, size):
     """The befores of the possible choices, ascending."""
     check_size(rule, size)
-    left, length, right = stretch
-    return Splits(rule, left, right).possible(length - size)
+    return possible_befores(rule, stretch[1] - size)
 
 
 def let(rule, stretch, size):
@@ -71,4 +70,9 @@ def is_sold(rule, stretch, thing):
 
 def is_stuck(rule, stretch):
     """Whether no choice is offered for any size."""
-    return not sales(rule, stretch)
+    left, length, right = stretch
+    splits = Splits(rule, left, right)
+    for size in rule.sizes:
+        if splits.offered(length - size):
+            return False
+    return True

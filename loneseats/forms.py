@@ -43,9 +43,11 @@ def _comes_round(numbers, start, shorter, period):
     return _behind_unlike(numbers, start, start + period, shorter, rise) == start
 
 
-def least_start(numbers, start, period):
-    """The least length from which on numbers come round by period that do so from start on."""
-    return _behind_unlike(numbers, 0, start, period, numbers[start + period] - numbers[start])
+def own_round(numbers, start, period):
+    """The least period of numbers that come round from start on by period, and the least start for it."""
+    period = least_period([numbers], start, period)
+    rise = numbers[start + period] - numbers[start]
+    return _behind_unlike(numbers, 0, start, period, rise), period
 
 
 def grown_round(rule, worth, pairs, is_least):
@@ -64,8 +66,7 @@ def form(rule, worth, left, right, *, is_least=False):
     """The form of the totals of the stretches with two ends: a tuple (start, period, rise, values)."""
     tables, late, weight = grown_round(rule, worth, [(left, right)], is_least)
     totals = tables.told(left, right, late + 2 * weight)
-    period = least_period([totals], late, weight)
-    start = least_start(totals, late, period)
+    start, period = own_round(totals, late, weight)
     return start, period, totals[start + period] - totals[start], tuple(totals[:start + period])
 
 

@@ -56,6 +56,11 @@ def are_forms(rule, thing):
     return all([told[:3] == (start, period, rise) for told in thing.values()])
 
 
+def prices_told(forms, many):
+    """What forms tell of the lengths below many: a dict from the pairs to lists."""
+    return {pair: [value(told, length) for length in range(many)] for pair, told in forms.items()}
+
+
 def _most_of_all(splits, befores, afters, rest):
     """What both parts of a rest come to at most with any choice that is offered, None without any."""
     width = GREATEST_BAD + 1
@@ -104,11 +109,17 @@ def are_price_lists(rule, worth, thing, *, is_least=False):
     return _are_lists(thing) and _all_keep(rule, worth, thing, is_least)
 
 
+def paper_round(rule, worth, is_least):
+    """The Tables of all pairs, and the start and the period of what paper tells."""
+    tables, start, weight = grown_round(rule, worth, all_pairs(), is_least)
+    lists = [tables.told(left, right, start + 2 * weight) for left, right in all_pairs()]
+    return tables, start, least_period(lists, start, weight)
+
+
 def paper(rule, worth, *, is_least=False):
     """A paper that tells the totals themselves: forms of all pairs, with a common start and period."""
-    tables, start, weight = grown_round(rule, worth, all_pairs(), is_least)
-    lists = {(left, right): tables.told(left, right, start + 2 * weight) for left, right in all_pairs()}
-    period = least_period(list(lists.values()), start, weight)
+    tables, start, period = paper_round(rule, worth, is_least)
+    lists = {(left, right): tables.told(left, right, start + period) for left, right in all_pairs()}
     return {pair: (start, period, totals[start + period] - totals[start], tuple(totals[:start + period]))
             for pair, totals in lists.items()}
 
@@ -120,6 +131,4 @@ def is_paper(rule, worth, thing, *, is_least=False):
         return False
     start, period, _, _ = thing[("sold", "sold")]
     # A longer stretch has a choice just where the one shorter by period has one, with one part shorter by period.
-    many = 2 * start + 2 * period + max(rule.sizes)
-    lists = {pair: [value(told, length) for length in range(many)] for pair, told in thing.items()}
-    return _all_keep(rule, worth, lists, is_least)
+    return _all_keep(rule, worth, prices_told(thing, 2 * start + 2 * period + max(rule.sizes)), is_least)

@@ -3,10 +3,18 @@
 GREATEST_BAD = 5
 
 
+def possible_befores(rule, rest):
+    """The befores of the possible choices, ascending; none if rest is below 0."""
+    if rule.where == "side" and rest > 0:
+        return [0, rest]
+    return list(range(rest + 1))
+
+
 class Splits:
     """The befores of the choices in stretches with two ends, by the rest: how many seats the party leaves free."""
 
     def __init__(self, rule, left, right):
+        self._rule = rule
         self._near = rule.bad_at(left)
         self._far = rule.bad_at(right)
         self._is_soft = rule.soft
@@ -16,12 +24,6 @@ class Splits:
     def is_bad(self, rest, before):
         """Whether a choice leaves a bad length beside an end."""
         return before in self._near or rest - before in self._far
-
-    def possible(self, rest):
-        """The befores of the possible choices, ascending; none if rest is below 0."""
-        if self._is_beside and rest > 0:
-            return [0, rest]
-        return list(range(rest + 1))
 
     def _let_of(self, rest, found):
         """Those of the possible befores found that are let; found are all, or so many that one of them is not bad."""
@@ -33,7 +35,7 @@ class Splits:
 
     def let(self, rest):
         """The befores of the choices let, ascending."""
-        return self._let_of(rest, self.possible(rest))
+        return self._let_of(rest, possible_befores(self._rule, rest))
 
     def offered(self, rest):
         """The befores of the choices offered, ascending."""
@@ -41,7 +43,7 @@ class Splits:
             return self.let(rest)
         # So many befores, the least ones, are enough: at each end at most five of them are bad.
         enough = self._many + 2 * GREATEST_BAD
-        found = self.possible(rest) if rest < enough or self._is_beside else list(range(enough))
+        found = possible_befores(self._rule, rest if self._is_beside else min(rest, enough - 1))
         return self._let_of(rest, found)[:self._many]
 
     def has(self, rest, before):
@@ -51,7 +53,7 @@ class Splits:
         return before in self.offered(rest)
 
     def is_wide(self, rest, width):
-        """Whether all choices that leave both parts width seats or more, width being no bad length, are offered."""
+        """Whether choices leave both parts width seats or more, which is above all bad lengths, and all are offered."""
         return self._many == 0 and not self._is_beside and rest >= 2 * width
 
     def outer(self, rest, width):

@@ -35,7 +35,7 @@ class Bids:
 
     def __init__(self, rule, worth, is_least):
         self.sign = -1 if is_least else 1
-        self.prices = [(size, self.sign * worth.price(size)) for size in rule.sizes]
+        self.priced = [(size, self.sign * worth.price(size)) for size in rule.sizes]
         self._seat = self.sign * worth.free
         self._last = worth.until
 
@@ -43,7 +43,7 @@ class Bids:
         """What a stretch comes to at most, by what comes of its rests."""
         found = []
         is_refused = True
-        for size, price in self.prices:
+        for size, price in self.priced:
             if size <= length and rests[length - size] is not None:
                 found.append(price + rests[length - size])
                 is_refused = is_refused and self._last not in (0, size)
@@ -110,7 +110,7 @@ class Tables:
         left, length, right = stretch
         pair = (self._like[left], self._like[right])
         rests, total = self._rests[pair], self._totals[pair][length]
-        for size, price in self._bids.prices:
+        for size, price in self._bids.priced:
             if size <= length and rests[length - size] is not None and price + rests[length - size] == total:
                 return size, self._before(pair, length - size)
         return None

@@ -287,3 +287,45 @@ def words_items(words, prices, free, until, is_least):
             many += 1
     return sorted({(size + many, prices.get(size, 0) + total(("sold", many, "sold")))
                    for size in words["sizes"] for many in beside})
+
+
+def words_parts(words, stretch):
+    """The parts with seats of all choices that are offered in a stretch, ascending."""
+    left, length, right = stretch
+    found = set()
+    for size, before in words_sales(words, stretch):
+        found |= {(left, before, "sold"), ("sold", length - size - before, right)}
+    return sorted(part for part in found if part[1] > 0)
+
+
+def words_comes(words, stretch):
+    """The dict from all stretches that come of one to the fewest sales they need."""
+    found = {stretch: 0} if stretch[1] else {}
+    waiting = list(found)
+    for whole in waiting:
+        for part in words_parts(words, whole):
+            if part not in found:
+                found[part] = found[whole] + 1
+                waiting.append(part)
+    return found
+
+
+def words_truths(words, left, right, is_wanted, upto):
+    """For which lengths a stretch that is wanted comes of one with these ends, by the definition."""
+    known = {}
+    for length in range(upto + 1):
+        for one, other in [("sold", "sold"), (left, "sold"), ("sold", right), (left, right)]:
+            stretch = (one, length, other)
+            known[stretch] = length > 0 and (is_wanted(stretch) or any(known[part] for part in words_parts(words, stretch)))
+    return [known[(left, length, right)] for length in range(upto + 1)]
+
+
+def words_round(truths):
+    """The least period, then the least start, of a long list, of which the last sixty come round: a tuple with truths."""
+    last = len(truths) - 60
+    period = [some for some in range(1, 30)
+              if all(truths[at] == truths[at + some] for at in range(last, len(truths) - some))][0]
+    start = last
+    while start > 0 and truths[start - 1] == truths[start - 1 + period]:
+        start -= 1
+    return start, period, tuple(truths[:start + period])

@@ -45,6 +45,15 @@ INTERFACE = {
     "papers": {"price_lists": "(rule, worth, upto, *, is_least=False)", "paper": "(rule, worth, *, is_least=False)",
                "are_price_lists": "(rule, worth, thing, *, is_least=False)",
                "is_paper": "(rule, worth, thing, *, is_least=False)"},
+    "guides": {"guide": "(rule, worth, *, is_least=False)", "is_guide": "(rule, worth, told, thing)"},
+    "comes": {"comes": "(rule, stretch)", "is_closed": "(rule, thing)", "way_to": "(rule, stretch, other)",
+              "lengths_of": "(rule, left, right, other)"},
+    "lone": {"lone_sizes": "(rule, stretch)", "lone_play": "(rule, stretch, size)",
+             "is_never_lone": "(rule, stretch, size, thing)", "lone_lengths": "(rule, left, right, size)",
+             "hall_refusal": "(rule, plan, size)"},
+    "sure": {"sure": "(rule, stretch, *, until=0)", "sure_seats": "(rule, stretch, *, until=0)",
+             "sure_in": "(rule, plan, *, until=0)", "least_length": "(rule, left, right, many, *, until=0)",
+             "always_from": "(rule, left, right, many, *, until=0)"},
 }
 METHODS = {
     ("rules", "Rule"): {"__eq__": "(self, other)", "bad_at": "(self, end)", "greatest_bad": "(self)", "span": "(self)",

@@ -1,7 +1,7 @@
 import unittest
 
 from loneseats.rules import Rule
-from loneseats.splits import Splits
+from loneseats.splits import Splits, possible_befores
 from tests.plain import PAIRS, made, same, some_rules, words_is_bad, words_let, words_offered, words_possible
 
 EVERY = [1, 2, 3, 4, 5]
@@ -14,7 +14,7 @@ class ByWords(unittest.TestCase):
         splits, size = Splits(made(words), left, right), words["sizes"][0]
         stretch = (left, rest + size, right)
         found = words_offered(words, stretch, size)
-        self.assertTrue(same(splits.possible(rest), words_possible(words, stretch, size)))
+        self.assertTrue(same(possible_befores(made(words), rest), words_possible(words, stretch, size)))
         self.assertTrue(same(splits.let(rest), words_let(words, stretch, size)))
         self.assertTrue(same(splits.offered(rest), found))
         for before in range(rest + 2):
@@ -43,7 +43,8 @@ class ByWords(unittest.TestCase):
         for words in some_rules(312, 20):
             for rest in (-1, -2, -5):
                 splits = Splits(made(words), "wall", "sold")
-                self.assertEqual((splits.possible(rest), splits.let(rest), splits.offered(rest)), ([], [], []))
+                self.assertEqual((splits.let(rest), splits.offered(rest)), ([], []))
+                self.assertEqual(possible_befores(made(words), rest), [])
 
     def test_many_bad_lengths_and_offers(self):
         for soft in (False, True):

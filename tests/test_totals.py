@@ -203,6 +203,64 @@ class Plays(unittest.TestCase):
         self.assertEqual(play, [(1, 2), (3, 2)])
 
 
+class ManyAsked(unittest.TestCase):
+    """[2] and [51]: the rules and worths that took longest, in all their kinds."""
+
+    every = [1, 2, 3, 4, 5]
+
+    def some_kinds(self):
+        """The rules told by dicts, with all lengths bad, some, unlike ones at each end, or none."""
+        for bad in (dict.fromkeys(ENDS, self.every), {}, {"sold": [1]}, {"wall": [1, 4], "pillar": [2], "sold": [3, 5]}):
+            for offer in (0, 5):
+                for soft in (False, True):
+                    for where in ("any", "side"):
+                        yield told(self.every, bad, soft, where, offer)
+
+    def some_worths(self):
+        return (dict.fromkeys(self.every, 3), 1, 1), ({1: 1, 2: 5, 3: 4, 4: 9}, 2, 0), ({2: 1, 5: 9}, 3, 5)
+
+    def test_tables_and_plays_to_twenty_seats(self):
+        for words in self.some_kinds():
+            for parts in self.some_worths():
+                rule, worth = made(words), worth_of(parts)
+                for is_least in (False, True):
+                    total = words_total(words, *parts, is_least)
+                    right = [total(("wall", length, "pillar")) for length in range(21)]
+                    for upto in (0, 18, 20):
+                        found = table(rule, worth, "wall", "pillar", upto, is_least=is_least)
+                        self.assertTrue(same(found, right[:upto + 1]))
+                    single = least if is_least else greatest
+                    for length in range(21):
+                        self.assertTrue(same(single(rule, worth, ("wall", length, "pillar")), right[length]))
+                    for length in (2, 7, 12, 20):
+                        self.check_play(words, parts, ("wall", length, "pillar"), is_least, right[length])
+
+    def check_play(self, words, parts, stretch, is_least, right):
+        prices, free, until = parts
+        play = play_for(made(words), worth_of(parts), stretch, is_least=is_least)
+        for at, sale in enumerate(play):
+            self.assertIn(sale, words_sales_then(words, stretch, play[:at]))
+        self.assertTrue(words_is_end(words, until, stretch, play))
+        self.assertEqual(words_count(prices, free, stretch, play), right)
+        self.assertEqual(total_of(made(words), worth_of(parts), stretch, play), right)
+
+    def test_all_totals_to_nine_seats(self):
+        for words in self.some_kinds():
+            for parts in self.some_worths():
+                totals = words_totals(words, *parts)
+                for length in range(10):
+                    stretch = ("wall", length, "pillar")
+                    self.assertTrue(same(totals_of(made(words), worth_of(parts), stretch), sorted(totals(stretch))))
+
+    def test_sixty_seats(self):
+        parts = self.some_worths()[0]
+        for bad in (dict.fromkeys(ENDS, self.every), {}):
+            words = told(self.every, bad, True)
+            for is_least in (False, True):
+                stretch = ("wall", 60, "pillar")
+                self.check_play(words, parts, stretch, is_least, words_total(words, *parts, is_least)(stretch))
+
+
 class Errors(unittest.TestCase):
     """[51], BadSale and NoSize."""
 
