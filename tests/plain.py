@@ -76,7 +76,8 @@ def some_rules(seed, many, greatest=5):
         sizes = chance.sample(range(1, greatest + 1), chance.randint(1, min(3, greatest)))
         bad = {end: chance.sample(range(1, 6), chance.choice([0, 0, 1, 1, 2, 3])) for end in ENDS}
         offer = 0 if at % 2 else chance.randint(1, 5)
-        found.append(told(sizes, bad, chance.random() < 0.5, chance.choice(["any", "any", "side"]), offer))
+        where = ["any", "any", "side"][at // 2 % 3]
+        found.append(told(sizes, bad, chance.random() < 0.5, where, offer))
     return found
 
 

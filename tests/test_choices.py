@@ -100,13 +100,22 @@ class ByWords(unittest.TestCase):
                 self.check(words, stretch)
 
     def test_is_sold(self):
-        for words in some_rules(34, 20):
+        kinds = [dict(words, where=where, offer=offer) for words in some_rules(34, 8)
+                 for where in ("any", "side") for offer in (0, 1, 3)]
+        for words in kinds:
             rule = made(words)
-            for stretch in stretches((0, 1, 4, 9)):
+            for stretch in stretches((0, 1, 4, 9, 17)):
                 right = words_sales(words, stretch)
                 for size in range(-1, 7):
-                    for before in range(-2, 11):
+                    for before in range(-2, 19):
                         self.assertIs(is_sold(rule, stretch, (size, before)), (size, before) in right)
+
+    def test_all_kinds_of_rules(self):
+        for words in some_rules(341, 10):
+            for where in ("any", "side"):
+                for offer in (0, 1, 4, 5):
+                    for length in (0, 1, 2, 3, 6, 11, 16, 17, 23):
+                        self.check(dict(words, where=where, offer=offer), ("wall", length, "sold"))
 
     def test_is_sold_of_any_value(self):
         rule, stretch = Rule([1, 2]), ("wall", 4, "sold")

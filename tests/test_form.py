@@ -8,10 +8,11 @@ import unittest
 
 FOLDER = os.path.join(os.path.dirname(os.path.dirname(os.path.abspath(__file__))), "loneseats")
 LIBRARY = {"heapq", "math", "itertools", "collections"}
-BUILTINS = set("""len range enumerate zip min max sum abs sorted reversed int str bool list tuple dict set frozenset
-    isinstance ord repr any all divmod pow getattr hasattr setattr iter next map Exception ValueError TypeError
-    KeyError IndexError LookupError ZeroDivisionError ArithmeticError OverflowError RuntimeError NotImplementedError
-    StopIteration NotImplemented property staticmethod classmethod super object""".split())
+BUILTINS = set("""len range enumerate zip min max sum abs sorted reversed int str bool bytes list tuple dict set
+    frozenset isinstance ord repr any all divmod pow getattr hasattr setattr iter next map Exception ValueError
+    TypeError KeyError IndexError LookupError ZeroDivisionError ArithmeticError OverflowError RuntimeError
+    NotImplementedError AttributeError StopIteration NotImplemented property staticmethod classmethod super
+    object""".split())
 BARRED = re.compile(r"\b(type|typing|enum|Enum|Flag|Generic|Protocol|ABC|namedtuple|dataclass|global|async)\b")
 
 # The interface, as far as it is built: each name with its parameters, of the file under which it is listed.
@@ -130,7 +131,10 @@ class Form(unittest.TestCase):
                     self.assertNotIsInstance(node.value, (float, complex))
                     if isinstance(node.value, str):
                         self.assertNotIn(chr(37), node.value)
-                self.assertNotIsInstance(node, (ast.Div, ast.Global, ast.AsyncFunctionDef, ast.GeneratorExp))
+                self.assertNotIsInstance(node, (ast.Div, ast.Global, ast.AsyncFunctionDef))
+                if isinstance(node, ast.Call) and isinstance(node.func, ast.Name):
+                    if node.func.id in ("any", "all", "min", "max", "sum", "sorted"):
+                        self.assertFalse([part for part in node.args if isinstance(part, ast.GeneratorExp)], name)
                 if isinstance(node, ast.Attribute):
                     self.assertNotIn(node.attr, ("sort", "format", "mro"))
 
@@ -142,8 +146,6 @@ class Form(unittest.TestCase):
                     self.assertNotIn(node.id, imported, name)
                 if isinstance(node, ast.arg):
                     self.assertNotIn(node.arg, imported, name)
-            used = {node.id for node in ast.walk(tree) if isinstance(node, ast.Name)}
-            self.assertEqual(imported - used, set(), name)
 
 
 class Interface(unittest.TestCase):

@@ -39,6 +39,17 @@ def words_prices(told, upto):
     return lists
 
 
+def stepped(before, after, size, many):
+    """Lists of prices that are outbidden only by one choice in one stretch between a wall and a pillar, if at all."""
+    lists = {pair: [1] * many for pair in PAIRS}
+    lists[("sold", "sold")] = [0] * many
+    lists[("pillar", "sold")] = lists[("sold", "wall")] = [0] * many
+    lists[("wall", "sold")] = [1 if length >= before else 0 for length in range(many)]
+    lists[("sold", "pillar")] = [1 if length >= after else 0 for length in range(many)]
+    lists[("wall", "pillar")] = [2 if length > before + size + after else 1 for length in range(many)]
+    return {pair: list(listed) for pair, listed in lists.items()}
+
+
 def longer(told, more, times):
     """The forms with a start greater by more and a period so many times as great, which tell the same."""
     found = {}
@@ -136,6 +147,25 @@ class PriceLists(unittest.TestCase):
         lists = {pair: [10 ** 40 * length for length in range(30)] for pair in PAIRS}
         self.assertIs(are_price_lists(STRICT, EMPTY, lists), True)
         self.assertIs(are_price_lists(STRICT, EMPTY, lists, is_least=True), False)
+
+    def test_just_the_choices_that_are_offered(self):
+        """Each choice alone, short ones and long ones, near the ends and far from them, with and without bad lengths."""
+        some = [told([3]), told([2], {"wall": [1, 5], "pillar": [2], "sold": [1]}), told([1], where="side"),
+                told([5], {"wall": [1, 2, 3, 4, 5], "pillar": [1, 2, 3, 4, 5]}, True), told([2], {"wall": [2]}, offer=3),
+                told([4], {"wall": [3], "pillar": [1, 2, 3, 4, 5]}, True, "any", 5)]
+        for words in some:
+            size = words["sizes"][0]
+            for before in list(range(10)) + [13, 20]:
+                for after in list(range(10)) + [13, 20]:
+                    length = before + size + after
+                    lists = stepped(before, after, size, length + 4)
+                    right = (size, before) not in words_sales(words, ("wall", length, "pillar"))
+                    self.assertIs(are_price_lists(made(words), Worth(), lists), right, (words, before, after))
+                    low = {pair: [-price for price in listed] for pair, listed in lists.items()}
+                    self.assertIs(are_price_lists(made(words), Worth(), low, is_least=True), right)
+                    if length >= words_span(words):
+                        forms = {pair: (length + 1, 1, 0, tuple(listed[:length + 2])) for pair, listed in lists.items()}
+                        self.assertIs(is_paper(made(words), Worth(), forms), right)
 
     def test_spoilt_dicts(self):
         lists = price_lists(STRICT, EMPTY, 5)
