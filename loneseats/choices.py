@@ -20,7 +20,7 @@ def check_size(rule, size):
 def possible(rule, stretch, size):
     """The befores of the possible choices, ascending."""
     check_size(rule, size)
-    return possible_befores(rule, stretch[1] - size)
+    return possible_befores(rule.where == "side", stretch[1] - size)
 
 
 def let(rule, stretch, size):

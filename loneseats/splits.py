@@ -3,9 +3,9 @@
 GREATEST_BAD = 5
 
 
-def possible_befores(rule, rest):
-    """The befores of the possible choices, ascending; none if rest is below 0."""
-    if rule.where == "side" and rest > 0:
+def possible_befores(is_beside, rest):
+    """The befores of the possible choices, at the sides alone or not, ascending; none if rest is below 0."""
+    if is_beside and rest > 0:
         return [0, rest]
     return list(range(rest + 1))
 
@@ -14,7 +14,6 @@ class Splits:
     """The befores of the choices in stretches with two ends, by the rest: how many seats the party leaves free."""
 
     def __init__(self, rule, left, right):
-        self._rule = rule
         self._near = rule.bad_at(left)
         self._far = rule.bad_at(right)
         self._is_soft = rule.soft
@@ -35,7 +34,7 @@ class Splits:
 
     def let(self, rest):
         """The befores of the choices let, ascending."""
-        return self._let_of(rest, possible_befores(self._rule, rest))
+        return self._let_of(rest, possible_befores(self._is_beside, rest))
 
     def offered(self, rest):
         """The befores of the choices offered, ascending."""
@@ -43,7 +42,7 @@ class Splits:
             return self.let(rest)
         # So many befores, the least ones, are enough: at each end at most five of them are bad.
         enough = self._many + 2 * GREATEST_BAD
-        found = possible_befores(self._rule, rest if self._is_beside else min(rest, enough - 1))
+        found = possible_befores(self._is_beside, rest if self._is_beside else min(rest, enough - 1))
         return self._let_of(rest, found)[:self._many]
 
     def has(self, rest, before):
@@ -58,6 +57,6 @@ class Splits:
 
     def outer(self, rest, width):
         """The befores of the choices offered that leave one part less than width seats; all, if it is not wide."""
-        if not self.is_wide(rest, width):
+        if rest < 2 * width or not self.is_wide(rest, width):
             return self.offered(rest)
         return self._let_of(rest, list(range(width)) + list(range(rest - width + 1, rest + 1)))

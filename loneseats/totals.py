@@ -4,7 +4,6 @@ A sale in a stretch is a tuple (seat, size), its seats being counted from 0.
 """
 
 from loneseats.errors import BadSale
-from loneseats.kinds import ENDS
 from loneseats.plays import free_behind, tally
 from loneseats.splits import Splits
 from loneseats.stretches import parts
@@ -22,8 +21,10 @@ def pairs_within(left, right):
 
 def like_ends(rule):
     """The dict from each end to an end with the same bad lengths, which is one for all of them."""
-    bad = {end: rule.bad_at(end) for end in ENDS}
-    return {end: [other for other in ("sold", "pillar", "wall") if bad[other] == bad[end]][0] for end in ENDS}
+    sold, pillar, wall = rule.bad_at("sold"), rule.bad_at("pillar"), rule.bad_at("wall")
+    for_pillar = "sold" if pillar == sold else "pillar"
+    for_wall = for_pillar if wall == pillar else "wall"
+    return {"sold": "sold", "pillar": for_pillar, "wall": "sold" if wall == sold else for_wall}
 
 
 class Bids:
@@ -41,15 +42,12 @@ class Bids:
 
     def most(self, rests, length):
         """What a stretch comes to at most, by what comes of its rests."""
-        found = []
-        is_refused = True
-        for size, price in self.priced:
-            if size <= length and rests[length - size] is not None:
-                found.append(price + rests[length - size])
-                is_refused = is_refused and self._last not in (0, size)
-        if is_refused:
-            found.append(self._seat * length)
-        return max(found)
+        found = [price + rests[length - size] for size, price in self.priced
+                 if size <= length and rests[length - size] is not None]
+        is_refused = not found
+        if self._last > 0:
+            is_refused = self._last > length or rests[length - self._last] is None
+        return max(found + [self._seat * length]) if is_refused else max(found)
 
 
 def most_of_rest(befores, afters, found, rest):
