@@ -157,7 +157,7 @@ def least(rule, worth, stretch):
     return table(rule, worth, left, right, length, is_least=True)[length]
 
 
-def _numbers(bits):
+def bit_numbers(bits):
     """The ascending list of the numbers of the bits that are set in an integer."""
     return [number for number in range(bits.bit_length()) if bits >> number & 1]
 
@@ -166,7 +166,7 @@ def _rest_bits(splits, befores, afters, rest):
     """An integer with a bit for each number that both parts of a rest come to; 0 where nothing is offered."""
     found = 0
     for before in splits.offered(rest):
-        for number in _numbers(afters[rest - before]):
+        for number in bit_numbers(afters[rest - before]):
             found = found | (befores[before] << number)
     return found
 
@@ -195,7 +195,7 @@ def totals_of(rule, worth, stretch):
             if many > 0:
                 rests.append(_rest_bits(splits, known[(one, "sold")], known[("sold", other)], many - 1))
             found.append(_total_bits(rule, worth, rests, many))
-    return _numbers(known[(left, right)][length])
+    return bit_numbers(known[(left, right)][length])
 
 
 def play_for(rule, worth, stretch, *, is_least=False):
@@ -207,7 +207,7 @@ def play_for(rule, worth, stretch, *, is_least=False):
     return tables.play(stretch)
 
 
-def _in_row(play):
+def in_row(play):
     """The members of a play of a stretch, any values, as sales of a row 0; what is no sale stays none."""
     return [(0, *member) if isinstance(member, tuple) else member for member in play]
 
@@ -215,7 +215,7 @@ def _in_row(play):
 def _free_within(rule, stretch, play):
     """The tuples (0, seat, stretch) of the free stretches behind a play of a stretch."""
     free = [(0, 0, stretch)] if stretch[1] > 0 else []
-    return free_behind(rule, free, _in_row(play))
+    return free_behind(rule, free, in_row(play))
 
 
 def left_behind(rule, stretch, play):
@@ -229,4 +229,4 @@ def total_of(rule, worth, stretch, play):
     free = [part for seat, part in left_behind(rule, stretch, play)]
     if not all([may_end(rule, worth, part) for part in free]):
         raise BadSale(len(play))
-    return worth.total(tally(_in_row(play)), sum([part[1] for part in free]))
+    return worth.total(tally(in_row(play)), sum([part[1] for part in free]))
