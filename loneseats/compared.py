@@ -27,20 +27,14 @@ def _first_above(gap):
     return min(found) if found else None
 
 
-def _unlike_turns(number, rise):
-    """How many times a gap can rise so that it is not yet above 0 for good, or not yet below for good; -1 if it is."""
-    if (number > 0) == (rise > 0):
-        return -1
-    return -number // rise if rise > 0 else (number - 1) // -rise
-
-
 def _late_round(gap):
     """A length from which on the lengths with a gap above 0 come round, and a period."""
     start, period, rise, numbers = gap
     if rise == 0:
         return start, period
-    turns = [_unlike_turns(number, rise) for number in numbers[start:]]
-    return max([start] + [start + at + period * many + 1 for at, many in enumerate(turns) if many >= 0]), 1
+    # Behind so many turns each gap has the sign of the rise, for good.
+    turns = max([abs(number) for number in numbers[start:]]) // abs(rise) + 1
+    return start + period * turns, 1
 
 
 def worse_lengths(one, other, worth, left, right, *, is_least=False):

@@ -130,7 +130,17 @@ class ByTables(unittest.TestCase):
                  ({2: 4, 3: 2, 4: 3, 5: 4}, 6, 1), "wall", "sold", False, 215),
                 (told([1, 3, 5], {"sold": [2, 5]}, where="side"),
                  told([4], {"pillar": [4], "sold": [1, 4], "wall": [3, 5]}, False, "side", 4),
-                 ({3: 4, 4: 5, 5: 1}, 7, 0), "wall", "sold", False, 150)]
+                 ({3: 4, 4: 5, 5: 1}, 7, 0), "wall", "sold", False, 150),
+                # Behind several turns alone, by a rise above 1.
+                (told([1, 4, 5], {"sold": [2, 3]}, True, "side"),
+                 told([1, 2], {"pillar": [2, 3, 5], "sold": [2]}, where="side"),
+                 ({2: 3, 4: 8, 5: 3}, 6, 1), "pillar", "pillar", False, 28),
+                (told([1, 3, 5], {"pillar": [1, 5], "sold": [2, 4], "wall": [2, 3, 4]}, True, "side", 4),
+                 told([4], {"pillar": [4], "sold": [2, 4, 5], "wall": [1, 4, 5]}, False, "side", 5),
+                 ({2: 8, 4: 1, 5: 2}, 4, 0), "pillar", "sold", False, 87),
+                (told([1, 3, 5], {"pillar": [2, 3], "sold": [1, 2, 3], "wall": [1]}, True, "any", 2),
+                 told([4, 5], {"pillar": [2, 3], "sold": [1, 2, 3], "wall": [1]}, True, "any", 2),
+                 ({2: 8, 3: 6, 4: 7, 5: 8}, 7, 0), "sold", "pillar", False, 66)]
         for one, other, parts, left, right, is_least, first in some:
             self.check(one, other, parts, left, right, is_least)
             self.assertEqual(first_worse(made(one), made(other), worth_of(parts), left, right, is_least=is_least), first)

@@ -7,7 +7,7 @@ from loneseats.papers import are_price_lists, is_paper, paper, price_lists
 from loneseats.rules import Rule
 from loneseats.totals import table
 from loneseats.worths import Worth
-from tests.plain import (ENDS, PAIRS, any_values, copied, made, same, some_cases, told, words_may_end, words_sales,
+from tests.plain import (PAIRS, any_values, copied, made, same, some_cases, told, words_may_end, words_sales,
                          words_span, words_total, worth_of)
 
 EMPTY, STRICT = Worth(free=1), Rule([2], {"sold": [1]})

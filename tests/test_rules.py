@@ -2,7 +2,7 @@ import unittest
 
 from loneseats.errors import LoneError, NoEnd, Wrong
 from loneseats.rules import Rule
-from tests.plain import ENDS, any_values, copied, made, nested, same, some_rules, words_span
+from tests.plain import ENDS, any_values, made, nested, same, some_rules, words_span
 
 FULL = {"sizes": [3, 2], "bad": {"wall": [2, 1], "sold": (1,)}, "soft": True, "where": "side", "offer": 2}
 
