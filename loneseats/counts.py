@@ -8,7 +8,7 @@ from loneseats.choices import offered
 from loneseats.kinds import is_sale, is_size
 from loneseats.plays import free_behind
 from loneseats.stretches import parts
-from loneseats.totals import bit_numbers
+from loneseats.totals import bit_numbers, like_ends
 
 
 def _parties(counts):
@@ -22,18 +22,45 @@ def _nexts(waiting):
             if at == 0 or waiting[at - 1] != size]
 
 
-def _bare(free):
-    """Free stretches without their places, in an order of their own, as a key."""
-    return tuple(sorted([stretch for row, seat, stretch in free]))
+def _places(free):
+    """The stretches of tuples (row, seat, stretch)."""
+    return [stretch for row, seat, stretch in free]
 
 
 class Seating:
-    """What parties can come to in free stretches without their places. What was asked once is kept."""
+    """What parties can come to in free stretches, wherever these are. What was asked once is kept.
+
+    Free stretches are told by a tuple: those that are too short for any party are left out, ends with the same bad
+    lengths are taken for one another, and stretches for their turned ones where all choices let are offered.
+    """
 
     def __init__(self, rule):
         self._rule = rule
+        self._like = like_ends(rule)
+        self._parts = {}
         self._behind = {}
         self._aways = {}
+        self._until = {}
+
+    def _plain(self, stretch):
+        """The stretch that is taken for this one."""
+        left, length, right = stretch
+        one, other = self._like[left], self._like[right]
+        return (other, length, one) if self._rule.offer == 0 and other < one else (one, length, other)
+
+    def bare(self, stretches):
+        """What tells some free stretches."""
+        return tuple(sorted([self._plain(stretch) for stretch in stretches if stretch[1] >= self._rule.sizes[0]]))
+
+    def _parts_of(self, stretch, size):
+        """The different parts that sales of a size leave of a stretch."""
+        key = (stretch, size)
+        if key not in self._parts:
+            found = {}
+            for before in offered(self._rule, stretch, size):
+                found[self.bare(list(parts(stretch, size, before)))] = True
+            self._parts[key] = [list(some) for some in found]
+        return self._parts[key]
 
     def behind(self, free, size):
         """The different free stretches that sales of a size leave; none if it is refused."""
@@ -43,8 +70,7 @@ class Seating:
             for at, stretch in enumerate(free):
                 if at == 0 or free[at - 1] != stretch:
                     others = list(free[:at]) + list(free[at + 1:])
-                    for before in offered(self._rule, stretch, size):
-                        some = [part for part in parts(stretch, size, before) if part[1] > 0]
+                    for some in self._parts_of(stretch, size):
                         found[tuple(sorted(others + some))] = True
             self._behind[key] = list(found)
         return self._behind[key]
@@ -64,6 +90,18 @@ class Seating:
                     found = found | (self.away_bits(free, later) << 1)
             self._aways[key] = found
         return self._aways[key]
+
+    def until_away(self, free, waiting):
+        """The fewest steps up to a party that is turned away, this one too; 0 if none ever is."""
+        nexts = _nexts(waiting)
+        if any([not self.behind(free, size) for size, _ in nexts]):
+            return 1
+        key = (free, waiting)
+        if key not in self._until:
+            found = [self.until_away(after, later) for size, later in nexts for after in self.behind(free, size)]
+            some = [many for many in found if many > 0]
+            self._until[key] = 1 + min(some) if some else 0
+        return self._until[key]
 
     def all_behind(self, frees, size):
         """The different free stretches that sales of a size leave of some; None if it is refused in one of them."""
@@ -114,7 +152,8 @@ def is_script(rule, plan, counts, thing):
 
 def aways(rule, plan, counts):
     """The numbers of parties that are turned away in some script, ascending."""
-    return bit_numbers(Seating(rule).away_bits(_bare(plan.stretches()), _parties(counts)))
+    seating = Seating(rule)
+    return bit_numbers(seating.away_bits(seating.bare(_places(plan.stretches())), _parties(counts)))
 
 
 def surely_seated(rule, plan, counts):
@@ -124,7 +163,7 @@ def surely_seated(rule, plan, counts):
 
 def _can_be(seating, free, waiting, many):
     """Whether just so many of the parties that are still to come can be turned away."""
-    return many in bit_numbers(seating.away_bits(_bare(free), waiting))
+    return many in bit_numbers(seating.away_bits(seating.bare(_places(free)), waiting))
 
 
 def _step_with(seating, steps, many):
@@ -149,29 +188,36 @@ def script_with(rule, plan, counts, many):
     return script
 
 
+def _step_until(seating, steps, many):
+    """The first of some steps, told as by _steps, with which so many steps lead to a party that is turned away."""
+    for step, free, waiting in steps:
+        if step[0] == "away" and many == 1:
+            return step, free, waiting
+        if step[0] == "sell" and seating.until_away(seating.bare(_places(free)), waiting) == many - 1 > 0:
+            return step, free, waiting
+    return None
+
+
 def first_refusal(rule, plan, counts):
     """The shortest beginning of a script that ends with a party being turned away, or None."""
-    layer = [([], plan.stretches(), _parties(counts))]
-    seen = {}
-    while layer:
-        found = []
-        for script, free, waiting in layer:
-            for step, after, later in _steps(rule, free, waiting):
-                if step[0] == "away":
-                    return script + [step]
-                key = (_bare(after), later)
-                if key not in seen:
-                    seen[key] = True
-                    found.append((script + [step], after, later))
-        layer = found
-    return None
+    seating = Seating(rule)
+    free, waiting = plan.stretches(), _parties(counts)
+    many = seating.until_away(seating.bare(_places(free)), waiting)
+    if many == 0:
+        return None
+    script = []
+    while many > 0:
+        step, free, waiting = _step_until(seating, _steps(rule, free, waiting), many)
+        script.append(step)
+        many -= 1
+    return script
 
 
 def aways_in_order(rule, plan, sizes):
     """The numbers of parties that can be turned away if they come in this order, ascending."""
     seating = Seating(rule)
     # The free stretches that can be left so far, each with a bit for each number of parties turned away on the way.
-    frees = {_bare(plan.stretches()): 1}
+    frees = {seating.bare(_places(plan.stretches())): 1}
     for size in sizes:
         found = {}
         for free, bits in frees.items():
@@ -202,4 +248,5 @@ def _good_order(seating, frees, waiting):
 
 def good_order(rule, plan, counts):
     """The least order in which no party is ever turned away, as a list of sizes, or None."""
-    return _good_order(Seating(rule), [_bare(plan.stretches())], _parties(counts))
+    seating = Seating(rule)
+    return _good_order(seating, [seating.bare(_places(plan.stretches()))], _parties(counts))

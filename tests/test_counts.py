@@ -155,6 +155,17 @@ class AllScripts(unittest.TestCase):
         for words, rows, counts in some_counts(902, 14, 6):
             self.check(words, [[8]], counts)
 
+    def test_stretches_are_not_their_turned_ones_with_an_offer(self):
+        for words, rows, counts in (
+                (told([1, 3, 4], {"sold": [2, 5]}, False, "side", 1), [[9]], {1: 2, 3: 2, 4: 1}),
+                (told([2, 4], {"sold": [2], "wall": [4]}, False, "any", 2), [[10]], {2: 2, 4: 1}),
+                (told([1, 2], {"pillar": [1, 3, 4], "sold": [2, 4, 5], "wall": [2]}, False, "side", 1), [[9]], {1: 2, 2: 1}),
+                (told([1, 2], {"sold": [2, 3, 4]}, False, "any", 1), [[7]], {1: 2, 2: 2}),
+                (told([2, 3, 5], {"pillar": [3, 4, 5], "wall": [2]}, False, "any", 1), [[4, 4]], {2: 2, 3: 2}),
+                (told([1, 2, 3], {"pillar": [2], "sold": [2], "wall": [3, 4]}, True, "any", 1), [[5, 4]], {2: 1, 3: 2})):
+            self.check(words, rows, counts)
+            self.check(dict(words, offer=0), rows, counts)
+
     def test_refused_later_or_sooner_by_the_order(self):
         # A strict rule refuses the pair in three seats, but not in the two that a single leaves.
         self.check(told([1, 2], {"sold": [1], "wall": [1]}), [[3]], {1: 1, 2: 1})
