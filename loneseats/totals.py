@@ -22,9 +22,9 @@ def pairs_within(left, right):
 def like_ends(rule):
     """The dict from each end to an end with the same bad lengths, which is one for all of them."""
     sold, pillar, wall = rule.bad_at("sold"), rule.bad_at("pillar"), rule.bad_at("wall")
-    for_pillar = "sold" if pillar == sold else "pillar"
-    for_wall = for_pillar if wall == pillar else "wall"
-    return {"sold": "sold", "pillar": for_pillar, "wall": "sold" if wall == sold else for_wall}
+    pillar_like = "sold" if pillar == sold else "pillar"
+    wall_like = pillar_like if wall == pillar else "wall"
+    return {"sold": "sold", "pillar": pillar_like, "wall": "sold" if wall == sold else wall_like}
 
 
 class Bids:

@@ -2,7 +2,7 @@ import unittest
 
 from loneseats import kinds
 from loneseats.rules import Rule
-from tests.plain import any_values, copied, nested, same
+from tests.plain import Same, any_values, copied, nested, same
 
 RIGHT = {
     "is_integer": [0, 1, -1, 5, 10 ** 40, -10 ** 40],
@@ -48,6 +48,15 @@ class Kinds(unittest.TestCase):
             for thing in things:
                 with self.subTest(name=name, thing=repr(thing)[:60]):
                     self.assertIs(getattr(kinds, name)(thing), False)
+
+    def test_what_is_equal_to_everything(self):
+        for name, things in RIGHT.items():
+            self.assertIs(getattr(kinds, name)(Same()), False)
+            for thing in things:
+                if isinstance(thing, (list, tuple)):
+                    for at in range(min(len(thing), 3)):
+                        bent = thing[:at] + type(thing)([Same()]) + thing[at + 1:]
+                        self.assertIs(getattr(kinds, name)(bent), False)
 
     def test_any_value_has_an_answer_and_stays(self):
         for name in RIGHT:
